@@ -1,0 +1,1 @@
+"""Halvesmeet: one store kept by many houses, by consensus."""

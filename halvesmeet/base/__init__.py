@@ -1,0 +1,1 @@
+"""Plain values, and the checks of arguments."""

@@ -1,0 +1,1 @@
+"""Disks, journals on them, and the two halves of a disk."""

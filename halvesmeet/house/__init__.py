@@ -1,0 +1,1 @@
+"""What a house keeps and does."""

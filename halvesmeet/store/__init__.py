@@ -1,0 +1,1 @@
+"""The plain store: deeds, and the states behind rows of them."""

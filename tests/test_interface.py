@@ -1,0 +1,81 @@
+"""Whether each name of the interface stands where the document lists it."""
+
+import ast
+import inspect
+import os
+import unittest
+
+ROOT = os.path.join(os.path.dirname(os.path.dirname(os.path.abspath(__file__))), "halvesmeet")
+CONSTANTS = {
+    "base/values.py": "MAX_HOUSES MAX_CIRCLE MAX_CLIENTS MAX_KEYS MAX_SIGNS MAX_LOT MAX_NEST MAX_STRING",
+    "store/deeds.py": "MAX_SUM DEED_WORDS", "disk/blocks.py": "MAX_BLOCKS MAX_WAITING MOST_FALLS",
+    "disk/journal.py": "MOST_ITEMS ITEMS", "disk/halves.py": "HALF PLACES FULL", "house/facts.py": "MAX_ENTRIES"}
+FUNCTIONS = {
+    "base/values.py": """is_house(value) is_client(value) is_circle(value) is_key(value) is_value(value) is_plain(value)
+        is_less(one,other) ordered(values) write_plain(value) read_plain(text)""",
+    "store/deeds.py": """is_deed(value) is_read(deed) is_entry(value) is_answer(value) keys_of(deed) done(pairs,deed)
+        run_deeds(pairs,deeds)""",
+    "store/states.py": "is_parts(value) state_of_parts(parts) firsts(entries)",
+    "disk/blocks.py": """is_block(value) falls_count(disk) each_fall(disk) fall_paper(disk,other)
+        is_fall_paper(disk,other,value)""",
+    "disk/journal.py": """is_item(value) is_record(value) is_record_block(value) blocks_of(life,number,record)
+        record_at(blocks,index,number) mended_rows(blocks,life,*,without=None) greatest_life(blocks)
+        stop_paper(blocks,life) is_stop_paper(blocks,life,value)""",
+    "disk/halves.py": "blocks_needed(records) root_of(disk) is_mended(sure,added,records)",
+    "house/facts.py": """promise(facts,term) fold(facts,length) begin(facts,epoch,circle,base,promised=-1)
+        lay(facts,term,base,start,entries) facts_of_records(records) records_of_facts(facts)"""}
+# the fourth argument of a state has the name of a builtin in the document, which the language bars: it is passed by position
+METHODS = {
+    "store/states.py": ("State", """__init__(self,length,pairs,sessions,next_circle) first(cls) done(self,entry)
+        run(self,entries) kept(self,client,number) is_late(self,client,number) reopened(self) parts(self)
+        __eq__(self,other) __str__(self)""", "length pairs sessions next"),
+    "disk/blocks.py": ("Disk", """__init__(self,blocks) empty(cls,many) put(self,place,block) read(self,place) blocks(self)
+        synced(self) fallen(self,kept) __len__(self) __eq__(self,other) __str__(self)""", "sure waiting"),
+    "disk/halves.py": ("Book", """__init__(self,disk,*,without=None) fresh(cls) added(self,record) turned(self,records)
+        synced(self) fallen(self,kept) __eq__(self,other) __str__(self)""", "disk records half used life is_full"),
+    "house/facts.py": ("Facts", """__init__(self,epoch,circle,promised,accepted,base,entries)
+        begun(cls,epoch,circle,base,promised=-1) entry(self,index) tail(self,start) state_at(self,start)
+        __eq__(self,other) __str__(self)""", "epoch circle promised accepted base entries length is_ended")}
+
+
+def tree_of(path):
+    with open(os.path.join(ROOT, path), encoding="ascii") as file:
+        return ast.parse(file.read())
+
+
+def heads_of(nodes):
+    """The functions among some nodes, with their parameters, and their decorators."""
+    return {f"{node.name}({ast.unparse(node.args).replace(' ', '')})": [ast.unparse(mark) for mark in node.decorator_list]
+            for node in nodes if isinstance(node, ast.FunctionDef)}
+
+
+class InterfaceTest(unittest.TestCase):
+    def test_constants(self):
+        for path, names in CONSTANTS.items():
+            found = [node.targets[0].id for node in tree_of(path).body if isinstance(node, ast.Assign)]
+            for name in names.split():
+                self.assertEqual(found.count(name), 1, name)
+
+    def test_functions(self):
+        for path, heads in FUNCTIONS.items():
+            found = heads_of(tree_of(path).body)
+            for head in heads.split():
+                self.assertIn(head, found)
+
+    def test_classes(self):
+        for path, (name, methods, properties) in METHODS.items():
+            told = [node for node in tree_of(path).body if isinstance(node, ast.ClassDef)]
+            self.assertEqual([node.name for node in told], [name])
+            found = heads_of(told[0].body)
+            for head in methods.split():
+                self.assertEqual(found[head], ["classmethod"] if "(cls" in head else [], head)
+            for head in properties.split():
+                self.assertEqual(found[head + "(self)"], ["property"], head)
+
+    def test_each_fall_is_a_generator(self):
+        from halvesmeet.disk.blocks import each_fall
+        self.assertTrue(inspect.isgeneratorfunction(each_fall))
+
+
+if __name__ == "__main__":
+    unittest.main()
