@@ -24,7 +24,7 @@ def nested(kind, depth):
 
 def odd_values():
     """Values of all kinds that can be passed as wrong arguments."""
-    numbers = [-1, 0, 1, 2, 3, 4, 5, 8, 9, 12, 13, 64, 65, 95, 96, 97, 200, 201, 400, 10 ** 9, 10 ** 9 + 1,
+    numbers = [-2, -1, 0, 1, 2, 3, 4, 5, 8, 9, 12, 13, 64, 65, 95, 96, 97, 200, 201, 400, 10 ** 9, 10 ** 9 + 1,
                10 ** 12, 10 ** 59, 10 ** 60 - 1, 10 ** 60, -10 ** 60 + 1, -10 ** 60, 10 ** 100 - 1, -10 ** 99]
     plain = [True, False, None, "", "a", "A", "put", "life", "zzzzzzzz", "aaaaaaaaa", "1", ".", "()", "~\n", " ",
              "a" * 3000, "b" * 3010]

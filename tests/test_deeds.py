@@ -176,6 +176,17 @@ class KindsTest(unittest.TestCase):
         self.assertIs(is_answer(("rows", (("zzzzzzz", 1), ("zzzzzzzz", 1)))), False)
         self.assertIs(is_answer(("rows", tuple((key, 0) for key in KEYS + ("y",)))), False)
 
+    def test_wrong_rows(self):
+        for row in (("A", 1), ("", 1), ("a1", 1), (None, 1), (1, 1), ([], 1), ("a", 1, 1), ("a",), (), None, "ab", ["a", 1],
+                    ("a", None), ("a", True), ("a", 10 ** 12), ("a", [])):
+            self.assertIs(is_answer(("rows", (row,))), False, row)
+
+    def test_wrong_answers_in_lots(self):
+        for answer in ANSWERS[:9] + (("swapped",),):
+            for changed in one_part_changed(answer):
+                lot = ("done", (changed, ("is", 1)))
+                self.assertIs(is_answer(lot), is_right_answer(lot), lot)
+
     def test_each_answer_of_a_deed_is_one(self):
         chance = random.Random(5)
         for _ in range(3000):

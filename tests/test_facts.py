@@ -82,6 +82,7 @@ class FactsTest(unittest.TestCase):
 
     def test_ended(self):
         self.assertIs(Facts(0, THREE, 5, 5, FIRST, entries_from(1) + (STOP,)).is_ended, True)
+        self.assertIs(Facts(0, THREE, 5, 5, FIRST, (STOP,)).is_ended, True)
         self.assertIs(Facts(0, THREE, 5, 5, STOPPED, ()).is_ended, True)
         self.assertIs(Facts(0, THREE, 5, 5, STOPPED.reopened(), ()).is_ended, False)
         self.assertIs(Facts(0, THREE, 5, 5, FIRST, entries_from(1)).is_ended, False)
@@ -207,6 +208,11 @@ class LayTest(unittest.TestCase):
             others = entries_from(6 - length, length, client=2)
             record = (("lay", 5, length, len(base.parts())),) + base.parts() + others
             self.check(lay(ROW, 5, base, length, others), told[:3] + (5, told[4], entries_from(2, 4, client=2)), record)
+
+    def test_a_base_that_is_not_longer_is_another_one(self):
+        base = State(4, {"z": 9}, {}, None)
+        later = lay(ROW, 5, base, 4, ())[0]
+        self.assertEqual([later.base, later.entries], [ROW.base, ()])
 
     def test_a_longer_base(self):
         told = members_of(ROW)
@@ -354,7 +360,8 @@ class RecordsTest(unittest.TestCase):
         many = entries_from(64, 7)
         for record in ((("lay", 5, 8, 0),), (("lay", 5, 0, 0),) + entries_from(3), (("lay", 5, 7, 0),) + many,
                        (("lay", 5, 7, 0), STOP, STOP), (("fold", 4),), (("fold", 8),), (("promise", 7),),
-                       (("lay", 5, 7, 1), ("state", 0, None)), (("lay", -1, 7, 0),), (("lay", 5, 2, 1), ("state", 2, None))):
+                       (("lay", 5, 7, 1), ("state", 0, None)), (("lay", 5, 9, 2), ("state", 9, None)),
+                       (("lay", 5, 9, 3), ("state", 9, None)), (("lay", 5, 7, -1),), (("lay", 5, 7, 1),), (("lay", -1, 7, 0),), (("lay", 5, 2, 1), ("state", 2, None))):
             self.wrong(whole + (record,))
         self.assertEqual(facts_of_records(whole + ((("lay", 5, 7, 0),) + many[:61],)).length, 68)
         self.assertEqual(facts_of_records(whole + ((("lay", 5, 9, 1), ("state", 9, None)),)).base, State(9, {}, {}, None))
@@ -364,6 +371,12 @@ class RecordsTest(unittest.TestCase):
         self.wrong(((head,) + STOPPED.parts(),))
         self.assertEqual(facts_of_records(((head,) + STOPPED.reopened().parts(),)), Facts.begun(3, THREE, STOPPED))
         self.assertEqual(facts_of_records((lay_whole(STOPPED),)).base, STOPPED)
+
+    def test_the_number_of_parts_in_a_whole_record(self):
+        head, *rest = records_of_facts(Facts(0, THREE, 0, 0, State(9, {"a": 1}, {}, None), ()))[0]
+        for many in (-1, 0, 1, 3, 4, 5, True, None):
+            self.wrong(((head[:5] + (many,), *rest),))
+        self.assertEqual(facts_of_records(((head[:5] + (2,), *rest),)).base.pairs, {"a": 1})
 
     def test_one_member_exchanged(self):
         first = begin(None, 1, THREE, FIRST.run(entries_from(2)))[1]

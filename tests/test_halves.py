@@ -86,9 +86,12 @@ class RootsTest(unittest.TestCase):
     def test_roots_that_are_none(self):
         rows = placed(2, blocks_of(4, 0, START))
         for root in ((4, 0), (4, 0, 1, 1), (4, 2, 1), (4, -1, 1), (4, 0, 0), (4, 0, 97), (0, 0, 1), (-4, 0, 1), ("a", 0, 1),
-                     (4, None, 1), (4, (), 1), (99, 2, 1), (99, 0, 97), blocks_of(99, 0, START)[0]):
+                     (4, None, 1), (4, (), 1), (99, 2, 1), (99, -1, 1), (99, 0, 0), (99, 0, 97), blocks_of(99, 0, START)[0]):
             self.check({0: root, **rows}, None, (), 5, None)
             self.check({0: root, 1: (4, 0, 1), **rows}, (4, 0, 1), (START,), 5, 0)
+
+    def test_the_least_life(self):
+        self.check({0: (1, 0, 1), **placed(2, blocks_of(1, 0, START))}, (1, 0, 1), (START,), 2, 0)
 
     def test_two_roots(self):
         both = {**placed(2, blocks_of(4, 0, START)), **placed(98, blocks_of(5, 0, MORE))}
@@ -159,7 +162,8 @@ class BooksTest(unittest.TestCase):
         for waiting in (book.added(MORE), book.turned((MORE,)), Book.fresh().turned((START,)), Book(Disk.empty(194).put(5, None))):
             for records in ((START,), (sized(12),) * 9):
                 self.assertEqual(kind_of_error(waiting.turned, [records]), (Refused, ("waiting",)))
-            self.assertEqual(kind_of_error(waiting.turned, [()]), (InvalidRecord, None))
+            for wrong in ((), (START, ()), [START], None):
+                self.assertEqual(kind_of_error(waiting.turned, [wrong]), (InvalidRecord, None))
             self.assertEqual(waiting.synced().turned((START,)).records, (START,))
 
     def test_room(self):

@@ -149,7 +149,7 @@ def fall_paper(disk, other):
     check_disk(other)
     kept = {}
     for index, (place, block) in enumerate(disk.waiting):
-        if place < len(other) and block == other.sure[place] and block != disk.sure[place]:
+        if place < len(other) and block == other.sure[place]:
             kept[place] = index
     paper = tuple(sorted(kept.values()))
     return paper if disk.fallen(paper) == other else None

@@ -251,11 +251,16 @@ def _behind_begin(facts, record):
     return begin(facts, epoch, circle, base, promised)[0]
 
 
-def _behind_promise(facts, record):
+def _number_alone(record):
+    """The number of a record that is a word and a number, and nothing else."""
     _check_head(record, 2)
     if len(record) > 1:
-        raise InvalidRecord("nothing stands behind a promise")
-    return promise(facts, record[0][1])[0]
+        raise InvalidRecord("nothing stands behind the head of a promise or a fold")
+    return record[0][1]
+
+
+def _behind_promise(facts, record):
+    return promise(facts, _number_alone(record))[0]
 
 
 def _behind_lay(facts, record):
@@ -267,10 +272,7 @@ def _behind_lay(facts, record):
 
 
 def _behind_fold(facts, record):
-    _check_head(record, 2)
-    if len(record) > 1:
-        raise InvalidRecord("nothing stands behind a fold")
-    return fold(facts, record[0][1])[0]
+    return fold(facts, _number_alone(record))[0]
 
 
 FIRST_WORDS = ("begin", "facts")

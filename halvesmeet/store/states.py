@@ -1,7 +1,7 @@
 """States: what the store is behind a beginning of the row."""
 
 from halvesmeet.base.checks import check_client, check_number
-from halvesmeet.base.values import is_circle, is_client, is_number, is_plain, is_within
+from halvesmeet.base.values import is_circle, is_client, is_key, is_number, is_within
 from halvesmeet.errors import InvalidOperation, InvalidState
 from halvesmeet.store.deeds import are_pairs, by_keys, check_entries, check_entry, do_deed, is_answer, is_stop
 
@@ -165,10 +165,10 @@ def state_of_parts(parts):
 
 def _state_told(value):
     """The state with these parts, or None."""
-    if not is_plain(value) or not isinstance(value, tuple):
+    if not isinstance(value, tuple):
         return None
     heads = [part[1:] for part in value if _is_part(part, "state", 3)]
-    pairs = {part[1]: part[2] for part in value if _is_part(part, "pair", 3) and isinstance(part[1], str)}
+    pairs = {part[1]: part[2] for part in value if _is_part(part, "pair", 3) and is_key(part[1])}
     sessions = {part[1]: part[2:] for part in value if _is_part(part, "session", 5) and is_client(part[1])}
     if len(heads) == 0 or not is_within(heads[0][0], 0, MAX_LENGTH):
         return None
