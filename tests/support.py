@@ -6,6 +6,8 @@ from halvesmeet import errors
 from halvesmeet.disk.blocks import Disk
 from halvesmeet.disk.halves import Book
 from halvesmeet.house.facts import Facts
+from halvesmeet.house.memory import Memory
+from halvesmeet.net.letters import Bag
 from halvesmeet.store.states import State
 
 THREE = (0, 1, 2)
@@ -32,8 +34,11 @@ def odd_values():
             ("circle", (0, 1)), ("circle", [0, 1]), (0, 1, ("get", "a")), ((0, 1, ("get", "a")),),
             (0, True, ("get", "a")), (False, 1, ("get", "a")), (((),),), ((None,), None), tuple(range(10)),
             ("state", 0, None), (("state", 0, None),), (("promise", 1),), ((("promise", 1),),),
-            (("facts", 0), ("facts", 1)), ("was", None), (1, 0, 0, 1, (("a",),))]
-    lists = [[], [0, 1], ["get", "a"], [[]], {}, {"a": 1}, {"A": 1}, {0: 1}, {True: 1}, {(): []}, {"a": [True]}]
+            (("facts", 0), ("facts", 1)), ("was", None), (1, 0, 0, 1, (("a",),)), ("ask", 0, 1, 2, 4, 0),
+            ("begun", 0, 1, 2), ("deed", 0, 1, 1, ("get", "a")), (("ask", 0, 1, 2, 4, 0),), ("ask", 0, 1, 2, 4, True),
+            (-1, 0, None, 0, ())]
+    lists = [[], [0, 1], ["get", "a"], [[]], {}, {"a": 1}, {"A": 1}, {0: 1}, {True: 1}, {0: True}, {9: 0}, {1: (-1, 0, None, 0, ())},
+             {(): []}, {"a": [True]}]
     deep = [nested(tuple, 12), nested(tuple, 13), nested(tuple, 16), nested(list, 16), nested(dict, 16), ([],), [()]]
     return numbers + plain + rows + lists + deep + own_objects()
 
@@ -41,7 +46,8 @@ def odd_values():
 def own_objects():
     """An object of each class, and values that have such objects inside."""
     facts = Facts.begun(0, THREE, State.first())
-    objects = [State.first(), Disk.empty(3), Disk.empty(194), Book.fresh(), facts, errors.HouseError("a")]
+    objects = [State.first(), Disk.empty(3), Disk.empty(194), Book.fresh(), facts, Memory(State.first()), Bag(),
+               errors.HouseError("a")]
     return objects + [(State.first(),), {"a": facts}, [Disk.empty(1)]]
 
 

@@ -9,7 +9,9 @@ ROOT = os.path.join(os.path.dirname(os.path.dirname(os.path.abspath(__file__))),
 CONSTANTS = {
     "base/values.py": "MAX_HOUSES MAX_CIRCLE MAX_CLIENTS MAX_KEYS MAX_SIGNS MAX_LOT MAX_NEST MAX_STRING",
     "store/deeds.py": "MAX_SUM DEED_WORDS", "disk/blocks.py": "MAX_BLOCKS MAX_WAITING MOST_FALLS",
-    "disk/journal.py": "MOST_ITEMS ITEMS", "disk/halves.py": "HALF PLACES FULL", "house/facts.py": "MAX_ENTRIES"}
+    "disk/journal.py": "MOST_ITEMS ITEMS", "disk/halves.py": "HALF PLACES FULL", "house/facts.py": "MAX_ENTRIES",
+    "net/letters.py": "MAX_LETTERS MAX_CARRIED MAX_COUNT HOUSE_WORDS CLIENT_WORDS", "house/memory.py": "RULES",
+    "house/asking.py": "PATIENCE"}
 FUNCTIONS = {
     "base/values.py": """is_house(value) is_client(value) is_circle(value) is_key(value) is_value(value) is_plain(value)
         is_less(one,other) ordered(values) write_plain(value) read_plain(text)""",
@@ -23,7 +25,14 @@ FUNCTIONS = {
         stop_paper(blocks,life) is_stop_paper(blocks,life,value)""",
     "disk/halves.py": "blocks_needed(records) root_of(disk) is_mended(sure,added,records)",
     "house/facts.py": """promise(facts,term) fold(facts,length) begin(facts,epoch,circle,base,promised=-1)
-        lay(facts,term,base,start,entries) facts_of_records(records) records_of_facts(facts)"""}
+        lay(facts,term,base,start,entries) facts_of_records(records) records_of_facts(facts)""",
+    "net/letters.py": "is_letter(value) is_house_letter(value) sender(letter) receiver(letter)",
+    "house/terms.py": """owner(circle,term) own_term(circle,house,floor) each_own_term(circle,house,floor,many)
+        is_more_than_half(circle,lot) others(circle,lot) least_halves(circle) common_house(circle,one,other) unmet(circle,lots)
+        chosen_length(circle,laid) holders(circle,laid,length)""",
+    "house/asking.py": """row_from(facts,start) asked(facts,memory,house) is_out_of_patience(facts,memory,house)
+        taken_ask(facts,memory,house,letter,*,without=None) taken_bar(facts,memory,house,letter)
+        taken_grant(facts,memory,house,letter,*,without=None) best_grant(grants)"""}
 # the fourth argument of a state has the name of a builtin in the document, which the language bars: it is passed by position
 METHODS = {
     "store/states.py": ("State", """__init__(self,length,pairs,sessions,next_circle) first(cls) done(self,entry)
@@ -35,7 +44,13 @@ METHODS = {
         synced(self) fallen(self,kept) __eq__(self,other) __str__(self)""", "disk records half used life is_full"),
     "house/facts.py": ("Facts", """__init__(self,epoch,circle,promised,accepted,base,entries)
         begun(cls,epoch,circle,base,promised=-1) entry(self,index) tail(self,start) state_at(self,start)
-        __eq__(self,other) __str__(self)""", "epoch circle promised accepted base entries length is_ended")}
+        __eq__(self,other) __str__(self)""", "epoch circle promised accepted base entries length is_ended"),
+    "net/letters.py": ("Bag", """__init__(self,letters=()) sent(self,letters) taken(self,index) lost(self,index)
+        doubled(self,index) to_house(self,house) to_client(self,client) has_same(self,other) __len__(self) __iter__(self)
+        __eq__(self,other) __str__(self)""", "letters"),
+    "house/memory.py": ("Memory", "__init__(self,state,fields=None) risen(cls,facts) but(self,fields) __eq__(self,other)",
+                        """role leader state decided floor term counter opening round grants laid at heard reads
+                        joined""")}
 
 
 def tree_of(path):

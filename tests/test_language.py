@@ -173,16 +173,20 @@ class RowsTest(unittest.TestCase):
                 self.assertIn(node.name, DUNDERS)
 
     def test_names(self):
-        barred = BARRED | (set(dir(builtins)) - {"next"})
+        barred = BARRED | set(dir(builtins))
+        in_classes = {part for _, kind in nodes(ast.ClassDef) for part in kind.body}
         for path, node in nodes(ast.FunctionDef):
+            # a method may have the name of a builtin that the language does not use
+            told = [node.name] if node not in in_classes or node.name in BUILTINS - {"next"} else []
+            self.assertNotIn(node.name, BARRED, path)
+            self.assertFalse(set(told) & barred, path)
+            self.assertFalse(set(local_names(node)) & barred, path)
             outer = {alias.name for _, alias in imports_of(path)} | OWN_CLASSES
             for name in local_names(node) + [node.name]:
                 self.assertRegex(name, r"^(_?[A-Za-z][A-Za-z0-9_]*|_|__[a-z]+__)$")
-                self.assertNotIn(name, barred, path)
                 self.assertFalse(re.match(r"_(wall|pe_|dcw_|enum_|cm_|twin_re_|lay_|law_|stub_|sre)", name))
                 self.assertNotIn(name, ("_cold", "_tuplegetter", "_outside", "_record", "_written_out", "_member_names"))
             self.assertFalse(set(local_names(node)) & outer, (path, node.name))
-            self.assertNotIn("next", local_names(node))
 
     def test_names_that_are_read(self):
         for path, tree in TREES.items():
@@ -204,8 +208,18 @@ class RowsTest(unittest.TestCase):
             if is_call_of(node, GENERATORS):
                 self.fail("the package itself calls no generator")
             if is_call_of(node, BUILTINS):
-                self.assertLessEqual({word.arg for word in node.keywords}, {"key", "default", "start"})
-            if is_call_of(node, ("set", "frozenset", "iter", "next", "map", "print")):
+                self.assertLessEqual({word.arg for word in node.keywords}, {"key", "default", "start", "reverse"})
+                for word in node.keywords:
+                    self.assertTrue(word.arg != "reverse" or (node.func.id == "sorted" and isinstance(word.value, ast.Constant)))
+            if is_call_of(node, ("set", "frozenset", "next", "map", "print")):
+                self.fail(path)
+
+    def test_iteration(self):
+        for path, node in nodes(ast.FunctionDef):
+            if node.name == "__iter__":
+                self.assertRegex(ast.unparse(node.body[-1]), r"^return iter\(self\._[a-z]+\)$")
+                self.assertEqual(len(node.body), 1)
+            elif [part for part in ast.walk(node) if is_call_of(part, ("iter",))]:
                 self.fail(path)
 
     def test_comprehensions(self):

@@ -1,6 +1,6 @@
 """The checks of arguments that are the same everywhere."""
 
-from halvesmeet.base.values import MAX_CLIENTS, MAX_NUMBER, is_circle, is_within
+from halvesmeet.base.values import MAX_CLIENTS, MAX_HOUSES, MAX_NUMBER, is_circle, is_within
 from halvesmeet.errors import InvalidCircle, InvalidNumber, InvalidOperation
 
 
@@ -8,6 +8,11 @@ def check_number(given, least, most=MAX_NUMBER):
     """Refuses all but integers from least to most."""
     if not is_within(given, least, most):
         raise InvalidNumber(given)
+
+
+def check_house(given):
+    """Refuses all but numbers of houses."""
+    check_number(given, 0, MAX_HOUSES - 1)
 
 
 def check_client(given):

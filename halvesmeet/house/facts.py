@@ -222,6 +222,17 @@ def facts_of_records(records):
     return facts
 
 
+def facts_until_wrong(records):
+    """The facts that checked records mean up to the first one that is no step, None if there are none."""
+    facts = None
+    for record in records:
+        try:
+            facts = _facts_behind(facts, record)
+        except InvalidRecord:
+            return facts
+    return facts
+
+
 def _check_head(record, many):
     """Refuses a record whose first item has another number of members."""
     if len(record[0]) != many:

@@ -30,7 +30,7 @@ def _is_worth(value):
     return value is None or is_value(value)
 
 
-def _word_of(value):
+def word_of(value):
     """The word with which a tuple begins, None for anything else."""
     if isinstance(value, tuple) and len(value) > 0 and isinstance(value[0], str):
         return value[0]
@@ -60,7 +60,7 @@ def _is_list(value):
 def _is_all(value):
     if len(value) != 2 or not _has_lot_size(value[1]):
         return False
-    return all([_word_of(part) in LOT_WORDS and is_deed(part) for part in value[1]])
+    return all([word_of(part) in LOT_WORDS and is_deed(part) for part in value[1]])
 
 
 def _has_lot_size(value):
@@ -78,7 +78,7 @@ DEED_FORMS = {
 
 def is_deed(value):
     """Whether the value is a deed."""
-    word = _word_of(value)
+    word = word_of(value)
     if word not in DEED_FORMS:
         return False
     form = DEED_FORMS[word]
@@ -115,9 +115,14 @@ def check_entry(entry):
         raise InvalidDeed("an entry has a client, a number and a deed")
 
 
+def are_entries(value):
+    """Whether the value is a tuple of entries."""
+    return isinstance(value, tuple) and all([is_entry(entry) for entry in value])
+
+
 def check_entries(entries):
     """Refuses all but tuples of entries."""
-    if not isinstance(entries, tuple) or not all([is_entry(entry) for entry in entries]):
+    if not are_entries(entries):
         raise InvalidDeed("entries are a tuple of entries")
 
 
@@ -140,7 +145,7 @@ def _has_place_in_lot(value):
 def _has_answers(value):
     if len(value) != 2 or not _has_lot_size(value[1]):
         return False
-    return all([_word_of(part) in LOT_ANSWERS and is_answer(part) for part in value[1]])
+    return all([word_of(part) in LOT_ANSWERS and is_answer(part) for part in value[1]])
 
 
 def _has_rows(value):
@@ -166,7 +171,7 @@ ANSWER_FORMS = {
 
 def is_answer(value):
     """Whether the value is an answer that some deed has from some pairs, a refusal too."""
-    word = _word_of(value)
+    word = word_of(value)
     if word not in ANSWER_FORMS:
         return False
     form = ANSWER_FORMS[word]
