@@ -6,6 +6,7 @@ from halvesmeet import errors
 from halvesmeet.disk.blocks import Disk
 from halvesmeet.disk.halves import Book
 from halvesmeet.house.facts import Facts
+from halvesmeet.house.houses import House
 from halvesmeet.house.memory import Memory
 from halvesmeet.net.letters import Bag
 from halvesmeet.store.states import State
@@ -47,7 +48,7 @@ def own_objects():
     """An object of each class, and values that have such objects inside."""
     facts = Facts.begun(0, THREE, State.first())
     objects = [State.first(), Disk.empty(3), Disk.empty(194), Book.fresh(), facts, Memory(State.first()), Bag(),
-               errors.HouseError("a")]
+               House.fresh(0), errors.HouseError("a")]
     return objects + [(State.first(),), {"a": facts}, [Disk.empty(1)]]
 
 

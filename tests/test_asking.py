@@ -330,6 +330,14 @@ class GrantTest(unittest.TestCase):
             base = FIRST.run(entries_from(length))
             self.check_leading(facts, {1: own, 2: (6, length, base.parts(), length, entries_from(4, length))}, (base, length, entries_from(4, length)))
 
+    def test_a_base_as_long_as_what_is_decided(self):
+        # it is not longer: the state and the own base stay, whatever is told
+        facts = facts_with(3, base=1, promised=9)
+        other = State(2, {"z": 9}, {}, None)
+        memory = self.asking(facts, grants={1: (4, 2, None, 2, ())})
+        turn = taken_grant(facts, memory, 1, grant(facts, 2, 1, 9, (6, 2, other.parts(), 2, entries_from(2, 2))))
+        self.assertEqual((turn[1].state, turn[2].base), (memory.state, other))
+
     def test_room(self):
         for decided, rows in ((10, 54), (1, 63)):
             facts = facts_with(20, promised=9)

@@ -8,7 +8,8 @@ from support import KEEPS, THREE
 
 # in the sequence of the stages; the examples of one may use the names of those ahead of it
 MODULES = ("errors", "base.values", "store.deeds", "store.states", "disk.blocks", "disk.journal", "disk.halves",
-           "house.facts", "net.letters", "house.terms", "house.memory", "house.asking")
+           "house.facts", "net.letters", "house.terms", "house.memory", "house.asking", "house.laying", "house.serving",
+           "house.epochs", "house.houses")
 # the errors have no examples, and those of the memory stand with asking
 WITHOUT_EXAMPLES = ("errors", "house.memory")
 FOLDER = os.path.join(os.path.dirname(__file__), "examples")

@@ -11,7 +11,7 @@ CONSTANTS = {
     "store/deeds.py": "MAX_SUM DEED_WORDS", "disk/blocks.py": "MAX_BLOCKS MAX_WAITING MOST_FALLS",
     "disk/journal.py": "MOST_ITEMS ITEMS", "disk/halves.py": "HALF PLACES FULL", "house/facts.py": "MAX_ENTRIES",
     "net/letters.py": "MAX_LETTERS MAX_CARRIED MAX_COUNT HOUSE_WORDS CLIENT_WORDS", "house/memory.py": "RULES",
-    "house/asking.py": "PATIENCE"}
+    "house/asking.py": "PATIENCE", "house/serving.py": "MOST_OPEN"}
 FUNCTIONS = {
     "base/values.py": """is_house(value) is_client(value) is_circle(value) is_key(value) is_value(value) is_plain(value)
         is_less(one,other) ordered(values) write_plain(value) read_plain(text)""",
@@ -32,7 +32,15 @@ FUNCTIONS = {
         chosen_length(circle,laid) holders(circle,laid,length)""",
     "house/asking.py": """row_from(facts,start) asked(facts,memory,house) is_out_of_patience(facts,memory,house)
         taken_ask(facts,memory,house,letter,*,without=None) taken_bar(facts,memory,house,letter)
-        taken_grant(facts,memory,house,letter,*,without=None) best_grant(grants)"""}
+        taken_grant(facts,memory,house,letter,*,without=None) best_grant(grants)""",
+    "house/laying.py": """lay_letter(facts,memory,house,goal,*,without=None) is_fitting(facts,memory,letter,*,without=None)
+        taken_lay(facts,memory,house,letter,*,without=None) taken_laid(facts,memory,house,letter,*,without=None)
+        decided_to(facts,memory,length) folded(facts,memory,many)""",
+    "house/serving.py": """taken_deed(facts,memory,house,letter,*,without=None) answered(facts,memory,house,length)
+        served(facts,memory,house) try_letter(facts,memory,house,client,number)""",
+    "house/epochs.py": """ended(facts,memory,house) carries(facts,memory,house)
+        taken_carry(facts,memory,house,letter,*,without=None) of_other_epoch(facts,memory,house,letter)
+        has_begun(facts,memory,other)"""}
 # the fourth argument of a state has the name of a builtin in the document, which the language bars: it is passed by position
 METHODS = {
     "store/states.py": ("State", """__init__(self,length,pairs,sessions,next_circle) first(cls) done(self,entry)
@@ -50,7 +58,11 @@ METHODS = {
         __eq__(self,other) __str__(self)""", "letters"),
     "house/memory.py": ("Memory", "__init__(self,state,fields=None) risen(cls,facts) but(self,fields) __eq__(self,other)",
                         """role leader state decided floor term counter opening round grants laid at heard reads
-                        joined""")}
+                        joined"""),
+    "house/houses.py": ("House", """fresh(cls,number,circle=None,*,fold=6,without=None)
+        risen(cls,number,disk,*,fold=6,without=None) taken(self,letter) beaten(self) synced(self) released(self)
+        fallen(self,kept) __eq__(self,other) __str__(self)""",
+                        "number book facts memory held pending fold without role decided")}
 
 
 def tree_of(path):

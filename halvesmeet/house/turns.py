@@ -99,10 +99,9 @@ def is_over(memory):
 
 
 def lacks_room(facts, base, start, entries):
-    """Whether a lay would let too many entries stand behind the base."""
-    if base is not None and base.length > facts.base.length:
-        return False
-    return start + len(entries) - facts.base.length > MAX_ENTRIES
+    """Whether a lay with a base, or None, would let too many entries stand behind the own base."""
+    # behind a told base stand at most as many entries as a letter carries, and they have room
+    return base is None and start + len(entries) - facts.base.length > MAX_ENTRIES
 
 
 def all_folded(facts, memory):
