@@ -34,7 +34,7 @@ class Disk:
     def empty(cls, many):
         """The disk with so many places on which nothing was ever put."""
         check_number(many, 1, MAX_BLOCKS)
-        return cls((None,) * many)
+        return _made((None,) * many, ())
 
     @property
     def sure(self):

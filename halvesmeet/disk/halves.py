@@ -3,7 +3,7 @@
 from halvesmeet.base.checks import check_without
 from halvesmeet.base.values import is_number, is_within
 from halvesmeet.disk.blocks import Disk, check_disk
-from halvesmeet.disk.journal import check_record, check_records, greatest_life, parts_needed, read_rows, written
+from halvesmeet.disk.journal import check_record, check_records, greatest_found, parts_needed, read_rows, written
 from halvesmeet.errors import InvalidOperation, InvalidRecord, Refused, TooMany
 
 HALF = 96
@@ -52,8 +52,7 @@ def _root_spot(blocks):
 def _next_life(blocks):
     """One more than the greatest life of all roots and record blocks of a disk."""
     roots = [block[0] for block in blocks[:ROOT_PLACES] if _is_root(block)]
-    halves = [greatest_life(_half_of(blocks, half)) for half in range(2)]
-    return max(roots + halves) + 1
+    return max(roots + [greatest_found(blocks[ROOT_PLACES:])]) + 1
 
 
 def _check_places(disk):

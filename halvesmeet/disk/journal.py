@@ -130,7 +130,12 @@ def read_rows(blocks, life, without):
 def greatest_life(blocks):
     """The greatest life of all record blocks of a row, 0 if there are none."""
     _check_blocks(blocks)
-    return max([block[0] for block in blocks if is_record_block(block)], default=0)
+    return greatest_found(blocks)
+
+
+def greatest_found(blocks):
+    """As greatest_life, for what was checked."""
+    return max([block[0] for block in blocks if block is not None and is_record_block(block)], default=0)
 
 
 def stop_paper(blocks, life):

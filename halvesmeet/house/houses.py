@@ -7,7 +7,7 @@ from halvesmeet.errors import InvalidCircle, InvalidFacts, InvalidOperation, Ref
 from halvesmeet.house.events import turn_of_beat, turn_of_letter
 from halvesmeet.house.facts import begin, facts_until_wrong, records_of_facts
 from halvesmeet.house.memory import Memory, check_rule
-from halvesmeet.net.letters import check_letter, receiver
+from halvesmeet.net.letters import receiver
 from halvesmeet.store.states import State
 
 MOST_FOLDED = 12
@@ -106,7 +106,6 @@ class House:
 
     def taken(self, letter):
         """The house behind a letter."""
-        check_letter(letter)
         if receiver(letter) != ("house", self._number):
             raise InvalidOperation("the letter goes elsewhere")
         try:
