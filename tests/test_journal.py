@@ -7,7 +7,7 @@ from halvesmeet.disk.blocks import is_block
 from halvesmeet.disk.journal import (
     blocks_of, greatest_life, is_item, is_record, is_record_block, is_stop_paper, mended_rows, record_at, stop_paper)
 from halvesmeet.errors import InvalidBlock, InvalidNumber, InvalidOperation, InvalidRecord
-from support import Parameter, check_errors, is_row_of, kind_of_error, nested, number_from, odd_values, parts_of_all
+from support import Parameter, check_errors, kind_of_error, nested, number_from, odd_values, parts_of_all
 
 
 def items(many, word="item"):

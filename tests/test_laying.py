@@ -4,7 +4,7 @@ import unittest
 
 from halvesmeet.errors import InvalidFacts, InvalidNumber, InvalidOperation, Refused, TooMany
 from halvesmeet.house.asking import row_from
-from halvesmeet.house.facts import Facts, fold, lay
+from halvesmeet.house.facts import Facts, fold
 from halvesmeet.house.laying import decided_to, folded, is_fitting, lay_letter, taken_laid, taken_lay
 from halvesmeet.house.memory import Memory
 from halvesmeet.store.states import State

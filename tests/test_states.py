@@ -2,9 +2,9 @@ import random
 import unittest
 
 from halvesmeet.errors import InvalidDeed, InvalidNumber, InvalidOperation, InvalidState
-from halvesmeet.store.deeds import done, is_answer, is_entry
+from halvesmeet.store.deeds import done, is_entry
 from halvesmeet.store.states import State, firsts, is_parts, state_of_parts
-from support import Parameter, check_errors, is_row_of, kind_of_error, nested, never, number_from, odd_values
+from support import Parameter, check_errors, is_row_of, kind_of_error, nested, number_from, odd_values
 from test_deeds import random_deed
 
 WORDS = ("put", "drop", "get", "add", "swap", "list", "all")

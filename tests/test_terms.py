@@ -91,7 +91,7 @@ class LotsTest(unittest.TestCase):
         for circle in CIRCLES:
             lots = lots_of(circle)
             for one in lots:
-                for other in lots if len(circle) < 7 else lots[::3]:
+                for other in lots:
                     common = [house for house in circle if house in one and house in other]
                     self.assertEqual(common_house(circle, one, other), min(common) if common else None)
                     if is_more_than_half(circle, one) and is_more_than_half(circle, other):
@@ -204,10 +204,6 @@ class NotTrueTest(unittest.TestCase):
 
     def test_three_lots_have_a_house_in_common(self):
         self.assertEqual(set.intersection(*[set(lot) for lot in least_halves(THREE)]), set())
-
-    def test_if_a_house_leads_no_other_one_does(self):
-        # each of two houses can have a term of its own for which more than half were asked
-        self.assertNotEqual(own_term(THREE, 0, 3), own_term(THREE, 1, 3))
 
 
 if __name__ == "__main__":
