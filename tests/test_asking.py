@@ -396,6 +396,9 @@ class GrantTest(unittest.TestCase):
                    (("lay", 0, 1, 2, 9, 3, None, 2, entries_from(1, 2), 2, 7),))
         self.check(facts, memory.but({"laid": {1: 3, 2: 0}}), 1, grant(facts, 2, 1, 9, empty_grant(8, 2)), (), {})
         self.check(facts, memory, 1, grant(facts, 1, 1, 9, empty_grant(8, 2)), (), {})
+        # its own grant once more, ahead of what it has laid itself: the lay that goes there does nothing (stage 14)
+        self.check(facts, memory.but({"laid": {}, "at": {}}), 1, grant(facts, 1, 1, 9, empty_grant(8, 2)), (), {"laid": {}, "at": {1: 2}},
+                   (("lay", 0, 1, 1, 9, 3, None, 2, entries_from(1, 2), 2, 7),))
         # its base goes if it is longer
         based = facts_with(3, base=4, promised=9)
         lay_there = taken_grant(based, memory_at(based, 5, role="leads", term=9, laid={}, at={}), 1, grant(based, 2, 1, 9, empty_grant(8, 3)))[3]
