@@ -396,9 +396,11 @@ class GrantTest(unittest.TestCase):
                    (("lay", 0, 1, 2, 9, 3, None, 2, entries_from(1, 2), 2, 7),))
         self.check(facts, memory.but({"laid": {1: 3, 2: 0}}), 1, grant(facts, 2, 1, 9, empty_grant(8, 2)), (), {})
         self.check(facts, memory, 1, grant(facts, 1, 1, 9, empty_grant(8, 2)), (), {})
-        # its own grant once more, ahead of what it has laid itself: the lay that goes there does nothing (stage 14)
-        self.check(facts, memory.but({"laid": {}, "at": {}}), 1, grant(facts, 1, 1, 9, empty_grant(8, 2)), (), {"laid": {}, "at": {1: 2}},
-                   (("lay", 0, 1, 1, 9, 3, None, 2, entries_from(1, 2), 2, 7),))
+        # its own grant once more, ahead of what it has laid itself: nothing is laid to the house itself (stage 11)
+        for at in ({}, {1: 0}, {1: 2, 2: 1}):
+            fields = {"laid": {}, "at": at, "floor": 9}
+            self.check(facts, memory.but(fields), 1, grant(facts, 1, 1, 9, empty_grant(8, 2)), (), {})
+            self.check(facts, memory.but({**fields, "floor": 5}), 1, grant(facts, 1, 1, 9, empty_grant(8, 3)), (), {"floor": 9})
         # its base goes if it is longer
         based = facts_with(3, base=4, promised=9)
         lay_there = taken_grant(based, memory_at(based, 5, role="leads", term=9, laid={}, at={}), 1, grant(based, 2, 1, 9, empty_grant(8, 3)))[3]

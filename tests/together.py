@@ -235,6 +235,8 @@ class Town:
         for letter in house.held:
             if letter[0] == "answer":
                 self.check_answer(letter)
+            if letter[0] == "lay" and letter[2] == letter[3]:
+                raise Broken(("lays to itself", letter))
 
     def decide(self, index, entry):
         if index > len(self.row):

@@ -121,7 +121,8 @@ def _first_row(facts, memory, without):
 def _behind_late_grant(facts, memory, house, letter):
     """The turn behind a grant of the term that the house leads already."""
     goal, decided = letter[2], letter[6]
-    if goal in memory.laid:
+    # nothing is laid to the house itself, so its own grant has nothing to tell any more
+    if goal == house or goal in memory.laid:
         return (), memory, facts, ()
     places = memory.at
     places[goal] = decided
