@@ -8,8 +8,11 @@ from halvesmeet.disk.halves import Book
 from halvesmeet.house.facts import Facts
 from halvesmeet.house.houses import House
 from halvesmeet.house.memory import Memory
+from halvesmeet.judge.pictures import Picture
 from halvesmeet.net.letters import Bag
 from halvesmeet.store.states import State
+from halvesmeet.world.clients import Client
+from halvesmeet.world.worlds import World
 
 THREE = (0, 1, 2)
 # the attribute in which an error keeps what it takes
@@ -37,7 +40,9 @@ def odd_values():
             ("state", 0, None), (("state", 0, None),), (("promise", 1),), ((("promise", 1),),),
             (("facts", 0), ("facts", 1)), ("was", None), (1, 0, 0, 1, (("a",),)), ("ask", 0, 1, 2, 4, 0),
             ("begun", 0, 1, 2), ("deed", 0, 1, 1, ("get", "a")), (("ask", 0, 1, 2, 4, 0),), ("ask", 0, 1, 2, 4, True),
-            (-1, 0, None, 0, ())]
+            (-1, 0, None, 0, ()), ("take", 0), ("beat", True), ("fall", 0, (1, 0)), (("beat", 0),), ("lead", 0, (0, 1)),
+            (("call", 0, 1, ("get", "a")),), (("answer", 0, 1, ("is", None), 0),), ((0,), 1, 6, ()), ((), ()),
+            ("order", ()), ("table", (((), ()),))]
     lists = [[], [0, 1], ["get", "a"], [[]], {}, {"a": 1}, {"A": 1}, {0: 1}, {True: 1}, {0: True}, {9: 0}, {1: (-1, 0, None, 0, ())},
              {(): []}, {"a": [True]}]
     deep = [nested(tuple, 12), nested(tuple, 13), nested(tuple, 16), nested(list, 16), nested(dict, 16), ([],), [()]]
@@ -48,7 +53,7 @@ def own_objects():
     """An object of each class, and values that have such objects inside."""
     facts = Facts.begun(0, THREE, State.first())
     objects = [State.first(), Disk.empty(3), Disk.empty(194), Book.fresh(), facts, Memory(State.first()), Bag(),
-               House.fresh(0), errors.HouseError("a")]
+               House.fresh(0), Client(0, THREE), World(THREE, 1), Picture.first(THREE), errors.HouseError("a")]
     return objects + [(State.first(),), {"a": facts}, [Disk.empty(1)]]
 
 

@@ -9,9 +9,10 @@ from support import KEEPS, THREE
 # in the sequence of the stages; the examples of one may use the names of those ahead of it
 MODULES = ("errors", "base.values", "store.deeds", "store.states", "disk.blocks", "disk.journal", "disk.halves",
            "house.facts", "net.letters", "house.terms", "house.memory", "house.asking", "house.laying", "house.serving",
-           "house.epochs", "house.houses")
-# the errors have no examples, and those of the memory stand with asking
-WITHOUT_EXAMPLES = ("errors", "house.memory")
+           "house.epochs", "house.houses", "world.clients", "world.worlds", "judge.pictures", "judge.sound",
+           "judge.orders", "world.calm", "judge.guards", "text.texts")
+# the errors have no examples, those of the memory stand with asking, and those of pictures with sound worlds
+WITHOUT_EXAMPLES = ("errors", "house.memory", "judge.pictures")
 FOLDER = os.path.join(os.path.dirname(__file__), "examples")
 
 

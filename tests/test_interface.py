@@ -11,7 +11,8 @@ CONSTANTS = {
     "store/deeds.py": "MAX_SUM DEED_WORDS", "disk/blocks.py": "MAX_BLOCKS MAX_WAITING MOST_FALLS",
     "disk/journal.py": "MOST_ITEMS ITEMS", "disk/halves.py": "HALF PLACES FULL", "house/facts.py": "MAX_ENTRIES",
     "net/letters.py": "MAX_LETTERS MAX_CARRIED MAX_COUNT HOUSE_WORDS CLIENT_WORDS", "house/memory.py": "RULES",
-    "house/asking.py": "PATIENCE", "house/serving.py": "MOST_OPEN"}
+    "house/asking.py": "PATIENCE", "house/serving.py": "MOST_OPEN", "world/worlds.py": "MAX_EVENTS MAX_FOLD",
+    "judge/orders.py": "MAX_SHORT MAX_STANDINGS", "world/calm.py": "CALM_MORE", "judge/guards.py": "RULES"}
 FUNCTIONS = {
     "base/values.py": """is_house(value) is_client(value) is_circle(value) is_key(value) is_value(value) is_plain(value)
         is_less(one,other) ordered(values) write_plain(value) read_plain(text)""",
@@ -40,7 +41,17 @@ FUNCTIONS = {
         served(facts,memory,house) try_letter(facts,memory,house,client,number)""",
     "house/epochs.py": """ended(facts,memory,house) carries(facts,memory,house)
         taken_carry(facts,memory,house,letter,*,without=None) of_other_epoch(facts,memory,house,letter)
-        has_begun(facts,memory,other)"""}
+        has_begun(facts,memory,other)""",
+    "world/clients.py": "does_fit_clients(history)", "world/worlds.py": "is_event(value) is_one_row(world)",
+    "judge/sound.py": "picture_of(world,epoch) actions_between(one,other) fault(world) is_sound(world)",
+    "judge/orders.py": """is_history(value) names(history) is_order(history,value) order_paper(world)
+        standings_behind(history,standing) history_paper(history) is_history_paper(history,value)""",
+    "world/calm.py": """calm(world,lot) calm_bound(world) rounds_of(events) driver_of(world,lot) epoch_of(world,lot)
+        is_calm(world,lot,value)""",
+    "judge/guards.py": """is_run(value) world_of_run(run,*,without=None) what_breaks(run,*,without=None) broken_run(word)
+        is_broken_run(word,value) kept_part(run)""",
+    "text/texts.py": """write_world(world) read_world(text) write_history(history) read_history(text) is_world_text(value)
+        tight(world,does_break)"""}
 # the fourth argument of a state has the name of a builtin in the document, which the language bars: it is passed by position
 METHODS = {
     "store/states.py": ("State", """__init__(self,length,pairs,sessions,next_circle) first(cls) done(self,entry)
@@ -62,7 +73,15 @@ METHODS = {
     "house/houses.py": ("House", """fresh(cls,number,circle=None,*,fold=6,without=None)
         risen(cls,number,disk,*,fold=6,without=None) taken(self,letter) beaten(self) synced(self) released(self)
         fallen(self,kept) __eq__(self,other) __str__(self)""",
-                        "number book facts memory held pending fold without role decided")}
+                        "number book facts memory held pending fold without role decided"),
+    "world/clients.py": ("Client", """__init__(self,number,circle) called(self,deed) again(self,house) given_up(self)
+        taken(self,letter) __eq__(self,other) __str__(self)""", "number calls open_call epoch circle asks"),
+    "world/worlds.py": ("World", """__init__(self,circle,clients,*,fold=6,without=None) can_be(self,event) done(self,event)
+        run(self,events) choices(self,*,deeds=()) __eq__(self,other) __len__(self) __str__(self)""",
+                        """circle fold without houses disks bag clients history events decided begins circles rows firsts
+                        votes promises answers"""),
+    "judge/pictures.py": ("Picture", """__init__(self,circle,promised,rows,firsts,votes) first(cls,circle) is_let(self,value)
+        done(self,action) chosen(self,term) choosable(self,term) fault(self) row(self) __eq__(self,other)""", "circle promised rows firsts votes")}
 
 
 def tree_of(path):
@@ -92,7 +111,8 @@ class InterfaceTest(unittest.TestCase):
     def test_classes(self):
         for path, (name, methods, properties) in METHODS.items():
             told = [node for node in tree_of(path).body if isinstance(node, ast.ClassDef)]
-            self.assertEqual([node.name for node in told], [name])
+            # beside it stands no other class, but one that is derived from it
+            self.assertEqual([node.name for node in told if [base.id for base in node.bases] != [name]], [name])
             found = heads_of(told[0].body)
             for head in methods.split():
                 self.assertEqual(found[head], ["classmethod"] if "(cls" in head else [], head)

@@ -218,19 +218,27 @@ def facts_of_records(records):
     check_records(records)
     facts = None
     for record in records:
-        facts = _facts_behind(facts, record)
+        facts = facts_behind(facts, record)
     return facts
+
+
+def each_behind(records):
+    """The list of the facts behind each of some checked records, up to the first one that is no step."""
+    found = []
+    facts = None
+    for record in records:
+        try:
+            facts = facts_behind(facts, record)
+        except InvalidRecord:
+            return found
+        found.append(facts)
+    return found
 
 
 def facts_until_wrong(records):
     """The facts that checked records mean up to the first one that is no step, None if there are none."""
-    facts = None
-    for record in records:
-        try:
-            facts = _facts_behind(facts, record)
-        except InvalidRecord:
-            return facts
-    return facts
+    found = each_behind(records)
+    return found[-1] if found else None
 
 
 def _check_head(record, many):
@@ -293,8 +301,8 @@ STEPS = {
     "fold": _behind_fold}
 
 
-def _facts_behind(facts, record):
-    """The facts behind the step of a record."""
+def facts_behind(facts, record):
+    """The facts behind the step of a checked record."""
     word = record[0][0]
     if word not in (FIRST_WORDS if facts is None else LATER_WORDS):
         raise InvalidRecord("a record has a word that is none, or that is not its turn")

@@ -85,16 +85,16 @@ def others(circle, lot):
 def least_halves(circle):
     """The ascending tuple of all lots that are more than half and have as few houses as can be."""
     check_circle(circle)
-    return tuple(_lots_of(circle, len(circle) // 2 + 1))
+    return tuple(lots_of(circle, len(circle) // 2 + 1))
 
 
-def _lots_of(houses, many):
-    """All lots of so many of some houses, ascending."""
+def lots_of(houses, many):
+    """All lots of so many of some ascending houses, ascending."""
     if many == 0:
         return [()]
     found = []
     for at, house in enumerate(houses):
-        for rest in _lots_of(houses[at + 1:], many - 1):
+        for rest in lots_of(houses[at + 1:], many - 1):
             found.append((house,) + rest)
     return found
 

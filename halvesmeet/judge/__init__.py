@@ -1,0 +1,1 @@
+"""What is told of worlds, histories and runs that were made by anyone."""

@@ -1,0 +1,1 @@
+"""The texts of worlds and histories."""

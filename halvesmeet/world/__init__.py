@@ -1,0 +1,1 @@
+"""Clients, whole worlds, and how a world comes to rest."""
