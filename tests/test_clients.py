@@ -311,7 +311,9 @@ class FitTest(unittest.TestCase):
                  ("call", 0, 0, GET), ("call", 0, True, GET), ("call", 0, 10 ** 60, GET), ("call", 0, 1, ("get", "A")), ("call", 0, 1, ["get", "a"]),
                  ("answer", 0, 1, ("is", None)), ("answer", 0, 1, ("is", None), 0, 0), ("answer", 0, 1, ("is", None), -1),
                  ("answer", 0, 1, ("is", None), True), ("answer", 0, 1, "is", 0), ("answer", 0, 1, None, 0), ("answer", 0, 1, ["is", None], 0),
-                 ("answer", 0, 1, (True,), 0), ("answer", 0, 1, ("A",), 0), ("answer", 0, 1, nested(tuple, 11), 0), ("answer", 0, "1", (), 0), 5, None, "call"]
+                 ("answer", 0, 1, (True,), 0), ("answer", 0, 1, ("A",), 0), ("answer", 0, 1, nested(tuple, 11), 0), ("answer", 0, "1", (), 0), 5, None, "call",
+                 (), ("call",), ("call", 0), ("answer",), ("answer", 0), ("answer", 0, 1, (), "1"), ("answer", 0, 1, (), None), ("answer", 0, 1, (), ()),
+                 ("call", 0, None, GET), ("call", None, 1, GET), ("call", 0, (), GET)]
         for row in wrong:
             self.assertEqual(kind_of_error(does_fit_clients, [(good, row)]), (InvalidHistory, None), row)
             self.assertEqual(kind_of_error(does_fit_clients, [(row, good)]), (InvalidHistory, None), row)

@@ -261,7 +261,9 @@ class StandingTest(unittest.TestCase):
             self.assertIsNone(kind_of_error(standings_behind, [history, standing]))
         wrong = [(), ((),), ((), (), ()), [(), ()], (((0, 2), (0, 1)), ()), (((0, 1), (0, 1)), ()), (((0, 3),), ()), (((0, True),), ()), (((False, 1),), ()),
                  (([0, 1],), ()), ((), (("b", 1), ("a", 1))), ((), (("a", 1), ("a", 2))), ((), (("a", True),)), ((), (("A", 1),)), ((), (("a", None),)),
-                 ((), (("a",),)), ((), (("a", 1, 1),)), ((), {"a": 1}), ((), [("a", 1)]), ((), many + (("z", 1),)), ((0, 1), ()), (5, ()), ((), 5), None]
+                 ((), (("a",),)), ((), (("a", 1, 1),)), ((), {"a": 1}), ((), [("a", 1)]), ((), many + (("z", 1),)), ((0, 1), ()), (5, ()), ((), 5), None,
+                 ((), ("ab",)), ((), (("a1", 1),)), ((), (("abcdefghi", 1),)), ((), (("", 1),)), ((), (("a", ()),)), ((), (("a", "b" * 13),)), ((), (5,)),
+                 ("", ()), ((), ""), (((9, 1),), ()), (((0, 1, 1),), ())]
         for standing in wrong:
             self.assertEqual(kind_of_error(standings_behind, [history, standing]), (InvalidOperation, None), standing)
         for value in odd_values() + own_objects():
@@ -394,7 +396,9 @@ class PaperTest(unittest.TestCase):
                                                      ("order", list(right[1])), ("table", ()), ("table", (((), ()),)), (right,), ("order", ((0, True), (1, 1)))]:
             self.assertIs(is_history_paper(SEEN, value), False, value)
         table = history_paper(STALE)
-        for value in (("order", table[1]), ("order", ()), ("table", table[1][1:]), ("table", list(table[1])), ("table", table[1] + (5,)), ("table", ()), ("table", 5)):
+        for value in (("order", table[1]), ("order", ()), ("table", table[1][1:]), ("table", list(table[1])), ("table", table[1] + (5,)), ("table", ()), ("table", 5),
+                      ("tables", table[1]), (None, table[1]), ("table", (5,) + table[1]), ("table", ordered(table[1] + ((((0, 9),), ()),))),
+                      ("table", table[1] + (True,)), ("table", table[1] + ([],)), ("table", ordered(table[1] + (((), (("a1", 1),)),)))):
             self.assertIs(is_history_paper(STALE, value), False, value)
 
     def test_errors(self):

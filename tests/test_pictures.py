@@ -6,7 +6,7 @@ from halvesmeet.base.values import is_circle
 from halvesmeet.errors import InvalidCircle, InvalidNumber, InvalidOperation, InvalidPicture
 from halvesmeet.judge.pictures import Picture
 from halvesmeet.judge.sound import actions_between
-from support import Parameter, check_errors, kind_of_error, number_from, odd_values, own_objects, shown
+from support import Parameter, check_errors, kind_of_error, odd_values, own_objects, shown
 
 THREE = (0, 1, 2)
 A, B, C, D = (0, 1, ("put", "a", 1)), (1, 1, ("put", "b", 2)), (0, 2, ("drop", "a")), (1, 2, ("get", "b"))
@@ -292,6 +292,15 @@ class PictureTest(unittest.TestCase):
             self.assertEqual(shown(picture), before)
         self.assertEqual(len(many), 8)
         self.assertGreater(min(many.values()), 100, many)
+
+    def test_best_votes_of_unsound_pictures(self):
+        promised = {0: 9, 1: 9, 2: 9}
+        # a vote in the very term is not below it, one in a term that is not led tells nothing, one in the term 0 counts
+        for votes, row in (({0: {5: 1}, 1: {}, 2: {}}, ()), ({0: {5: 1, 3: 1}, 1: {}, 2: {}}, (A,)), ({0: {4: 1, 3: 1}, 1: {}, 2: {}}, ()),
+                           ({0: {}, 1: {0: 1}, 2: {}}, (B,)), ({0: {3: 1}, 1: {0: 2}, 2: {3: 2}}, (A,)), ({0: {3: 9}, 1: {}, 2: {}}, (A, C))):
+            picture = Picture(THREE, promised, {0: (B, C), 3: (A, C)}, {0: 0, 3: 0}, votes)
+            self.assertEqual(picture.done(("lead", 5, (0, 1))).rows[5], row)
+            self.assertEqual(picture.done(("lead", 5, (0, 1))).firsts[5], len(row))
 
     def test_sound_pictures_stay_sound(self):
         # also those that were not reached by actions

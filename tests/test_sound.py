@@ -4,6 +4,8 @@ import unittest
 from drawing import Drawn, drawn_world
 from halvesmeet.base.values import ordered
 from halvesmeet.errors import InvalidNumber, InvalidWorld
+from halvesmeet.disk.halves import Book
+from halvesmeet.house.facts import Facts, records_of_facts
 from halvesmeet.house.houses import House
 from halvesmeet.house.memory import RULES
 from halvesmeet.judge.guards import broken_run, world_of_run
@@ -11,11 +13,13 @@ from halvesmeet.judge.pictures import Picture
 from halvesmeet.judge.sound import actions_between, fault, is_sound, picture_of
 from halvesmeet.store.deeds import do_deed, is_read
 from halvesmeet.store.states import State
+from halvesmeet.world.calm import calm
 from halvesmeet.world.worlds import World
 from support import Parameter, check_errors, kind_of_error, odd_values
 from test_pictures import plain_faults
 
 THREE = (0, 1, 2)
+PUT = ("put", "a", 1)
 
 
 def plain_picture(world, epoch):
@@ -219,7 +223,7 @@ class SentencesTest(unittest.TestCase):
     def test_answers(self):
         world = self.world()
         self.assertIsNone(fault(world))
-        for index, told in enumerate(world.answers):
+        for told in world.answers:
             for other in (told[:2] + (("full",),) + told[3:], told[:3] + (told[3] + 1,), told[:3] + (0,), told[:3] + (10 ** 9,)):
                 answers = [answer for answer in world.answers if answer != told] + [other]
                 later = with_parts(world, answers={answer: True for answer in answers})
@@ -263,6 +267,117 @@ class SentencesTest(unittest.TestCase):
                 self.assertEqual(fault(later), plain_fault(later))
                 if state.length > 0:
                     self.assertEqual(fault(later), ("states", number))
+
+    def with_facts(self, world, number, facts):
+        """The world in which a house is down, with facts on its disk."""
+        disk = Book.fresh().turned(records_of_facts(facts)).synced().disk
+        return with_parts(world, houses={**world.houses, number: None}, fallen={**world._parts["fallen"], number: disk})
+
+    def test_each_part_of_a_disk(self):
+        for fold in (1, 12):
+            world = World(THREE, 1, fold=fold)
+            for deed in (PUT, ("put", "b", 2), ("add", "a", 1)):
+                world = world.done(("call", 0, deed))
+                world = world.run(calm(world, THREE))
+            facts = world.houses[1].facts
+            self.assertEqual(facts.base.length > 0, fold == 1)
+            self.assertIsNone(fault(self.with_facts(world, 1, facts)))
+            base, entries = facts.base, facts.entries
+            state = State(base.length, {**base.pairs, "z": 1}, base.sessions, None)
+            told = {"promised": facts.promised + 3, "accepted": facts.accepted - 3, "base": state, "entries": entries[:-1],
+                    "longer": entries + ((1, 1, PUT),), "other": entries[:-1] + ((0, 3, ("put", "z", 9)),), "circle": (1,)}
+            for name, value in told.items():
+                parts = [facts.epoch, facts.circle, facts.promised, facts.accepted, base, entries]
+                at = {"promised": 2, "accepted": 3, "base": 4, "circle": 1}.get(name, 5)
+                if name == "accepted" and value < 0 or at == 5 and not entries:
+                    continue
+                later = self.with_facts(world, 1, Facts(*parts[:at], value, *parts[at + 1:]))
+                self.assertEqual(fault(later), plain_fault(later))
+                self.assertEqual(fault(later), None if name == "circle" else ("disks", 1), name)
+        # a house that has accepted nothing, or has no epoch
+        self.assertEqual(fault(self.with_facts(world, 1, Facts(0, THREE, facts.promised, -1, State.first(), ()))), ("disks", 1))
+        self.assertIsNone(fault(with_parts(world, houses={**world.houses, 8: None}, fallen={8: Book.fresh().disk})))
+
+    def test_what_a_house_has_decided(self):
+        world = World(THREE, 1, fold=12)
+        for deed in (PUT, ("put", "b", 2), ("add", "a", 1)):
+            world = world.done(("call", 0, deed))
+            world = world.run(calm(world, THREE))
+        house = world.houses[1]
+        # other entries than the row of all has, though the state is right
+        other = copy.copy(house)
+        facts = house.facts
+        other._facts = Facts(0, THREE, facts.promised, facts.accepted, facts.base, ((0, 1, ("put", "z", 1)),) + facts.entries[1:])
+        later = with_parts(world, houses={**world.houses, 1: other})
+        self.assertEqual((fault(later), plain_fault(later)), (("states", 1), ("states", 1)))
+
+    def test_how_epochs_follow(self):
+        world = World(THREE, 1).done(("call", 0, ("circle", (0, 1))))
+        world = world.run(calm(world, THREE)).done(("call", 0, PUT))
+        world = world.run(calm(world, THREE))
+        self.assertEqual((world.begins, fault(world)), ({0: 0, 1: 1}, None))
+        entry = (0, 1, PUT)
+        rows = {**world.rows, (0, 0): (entry,)}
+        changes = [{"circles": {0: THREE, 1: (0, 1, 5)}}, {"begins": {0: 0, 1: 0}}, {"begins": {0: 0, 1: 2}}, {"rows": rows},
+                   {"begins": {0: 0, 1: 1, 2: 2}, "circles": {0: THREE, 1: (0, 1), 2: (0, 1)}},
+                   {"begins": {0: 0, 1: 1, 3: 1}, "circles": {0: THREE, 1: (0, 1), 3: (0, 1)}}]
+        words = set()
+        for change in changes:
+            # no house is up, and no disk tells anything: the epochs alone are looked at
+            empty = {number: Book.fresh().disk for number in range(9)}
+            later = with_parts(world, houses={number: None for number in range(9)}, fallen=empty, answers={}, **change)
+            self.assertEqual(fault(later), plain_fault(later))
+            words.add(fault(later))
+        self.assertLessEqual({("states",)}, words)
+        self.assertNotIn(None, words)
+        alone = with_parts(world, houses={number: None for number in range(9)}, fallen=empty, answers={})
+        self.assertIsNone(fault(alone))
+        for change in changes[:4]:
+            self.assertEqual(fault(with_parts(alone, **change))[0], "states")
+
+    def test_answers_of_other_places(self):
+        world = World(THREE, 2, fold=12)
+        for client, deed in ((0, PUT), (1, PUT), (0, ("get", "a")), (1, ("put", "a", 9)), (0, ("get", "b"))):
+            world = world.done(("call", client, deed))
+            world = world.run(calm(world, THREE))
+        self.assertEqual(len(world.answers), 5)
+        self.assertIsNone(fault(world))
+        for told in world.answers:
+            for length in range(6):
+                for answer in (told[2], ("is", 1), ("is", None), ("was", 1)):
+                    other = told[:2] + (answer, length)
+                    answers = [row for row in world.answers if row != told] + [other]
+                    later = with_parts(world, answers={row: True for row in answers})
+                    self.assertEqual(fault(later), plain_fault(later))
+        self.assertEqual(fault(with_parts(world, answers={(0, 1, ("was", None), 0): True})), ("answers", 0))
+        self.assertEqual(fault(with_parts(world, answers={(0, 1, ("was", None), 2): True})), ("answers", 0))
+        self.assertEqual(fault(with_parts(world, answers={(0, 2, ("is", 1), 0): True})), ("answers", 0))
+        self.assertIsNone(fault(with_parts(world, answers={(0, 2, ("is", None), 0): True})))
+
+    def test_houses_out_of_the_circle(self):
+        # two halves that begin the next epoch with circles of their own
+        world = World((0, 1, 2, 3), 2, without="half")
+        for pair in ((0, 1), (2, 3)):
+            client = pair[0] // 2
+            world = world.done(("call", client, ("circle", pair))).done(("lose", len(world.bag)))
+            while not (world.houses[pair[0]].facts.epoch == 1 and world.houses[pair[0]].role == "leads"):
+                at = [index for number in pair for index in world.bag.to_house(number) if world.bag.letters[index][2] in pair]
+                busy = [number for number in pair if world.houses[number].held or world.houses[number].pending]
+                if busy:
+                    world = world.done(("sync", busy[0]))
+                elif at:
+                    world = world.done(("take", at[0]))
+                elif world.houses[pair[0]].role == "leads":
+                    world = world.run((("again", client, pair[0]), ("take", len(world.bag))))
+                else:
+                    world = world.done(("beat", pair[0]))
+            world = world.done(("sync", pair[0]))
+        self.assertEqual((world.begins[1], world.circles[1]), (1, (0, 1)))
+        self.assertEqual({house for epoch, _, house in world.votes if epoch == 1} & {2, 3}, {2})
+        picture = picture_of(world, 1)
+        self.assertEqual((picture.circle, set(picture.votes)), ((0, 1), {0, 1}))
+        self.assertEqual(fault(world), plain_fault(world))
+        self.assertEqual(fault(world)[:2], ("lots", 0))
 
     def test_states_of_houses_and_epochs(self):
         world = self.world()

@@ -66,9 +66,9 @@ class OneRowTest(unittest.TestCase):
         # what was answered ahead of a call has a lesser length, or for two reads an equal one
         for seed in range(10):
             world = drawn_world(seed, 400)
-            for at, told in enumerate(world.history):
+            for told in world.history:
                 if told[0] == "answer":
-                    called = world.history.index(("call", told[1], told[2], [row[3] for row in world.history if row[:3] == ("call",) + told[1:3]][0]))
+                    called = [row[:3] for row in world.history].index(("call",) + told[1:3])
                     ahead = [row[4] for row in world.history[:called] if row[0] == "answer"]
                     self.assertLessEqual(max(ahead, default=0), told[4])
 

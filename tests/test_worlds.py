@@ -1,15 +1,18 @@
+import copy
 import itertools
-import random
 import unittest
 
 from account import Account, check_world
-from drawing import DEEDS, Drawn, drawn_world
+from drawing import Drawn, drawn_world
 from halvesmeet.base.values import is_circle, ordered
 from halvesmeet.errors import InvalidCircle, InvalidDeed, InvalidEvent, InvalidNumber, InvalidOperation, InvalidWorld, Refused, TooMany
 from halvesmeet.house.houses import House
 from halvesmeet.house.memory import RULES
+from halvesmeet.judge.guards import broken_run, world_of_run
+from halvesmeet.judge.sound import is_sound
 from halvesmeet.net.letters import receiver
 from halvesmeet.store.deeds import is_deed
+from halvesmeet.world.calm import calm, driver_of
 from halvesmeet.world.worlds import MAX_EVENTS, MAX_FOLD, World, is_event, is_one_row
 from support import Parameter, check_errors, kind_of_error, nested, number_from, odd_values, own_objects, shown
 
@@ -317,6 +320,14 @@ class ChoicesTest(unittest.TestCase):
         self.assertEqual([event for event in fallen.choices() if event[1] == 3], [("rise", 3)])
         self.assertEqual([event for event in fallen.choices() if event[0] == "again"], [])
 
+    def test_several_waiting_puts(self):
+        circle, clients, fold, events = broken_run("life")
+        at = [event[0] for event in events].index("fall")
+        world = World(circle, clients, fold=fold).run(events[:at])
+        self.assertEqual(len(world.houses[1].book.disk.waiting), 3)
+        self.assertEqual([event[2] for event in world.choices() if event[:2] == ("fall", 1)],
+                         [(), (0,), (0, 1), (0, 1, 2), (0, 2), (1,), (1, 2), (2,)])
+
     def test_errors(self):
         world = World(THREE, 1)
         is_right = lambda value: type(value) is tuple and len(value) <= 12 and all(map(is_deed, value))
@@ -355,6 +366,18 @@ class EqualTest(unittest.TestCase):
         self.assertNotEqual(gone, world)
         self.assertNotEqual(gone, kept)
         self.assertEqual(gone.answers, kept.answers)
+        for name in ("decided", "begins", "circles", "rows", "firsts", "votes", "promises", "answers"):
+            other = copy.copy(gone)
+            other._parts = {**gone._parts, name: {}}
+            self.assertNotEqual(other, gone, name)
+
+    def test_the_settings_count(self):
+        # also if all houses are down
+        falls = tuple(("fall", number, ()) for number in range(9))
+        down = World(THREE, 1).run(falls)
+        self.assertEqual(down, World(THREE, 1).run(falls[::-1]))
+        for other in (World(THREE, 1, fold=5), World(THREE, 1, without="half")):
+            self.assertNotEqual(other.run(falls), down)
 
     def test_texts(self):
         world = drawn_world(3, 60)
@@ -444,6 +467,50 @@ class RecordTest(unittest.TestCase):
             indices = [index for index, _ in world.decided]
             self.assertIs(is_one_row(world), indices == list(range(len(indices))))
             self.assertTrue(is_one_row(world))
+
+    def test_not_one_row(self):
+        for rule in RULES:
+            world = world_of_run(broken_run(rule), without=rule)
+            self.assertIs(is_one_row(world), rule == "round")
+        entry = (0, 1, PUT)
+        for table, told in (({}, True), ({0: (entry,)}, True), ({1: (entry,)}, False), ({0: (entry,), 2: (entry,)}, False),
+                            ({0: (entry, (1, 1, PUT))}, False), ({0: (entry,), 1: (entry,)}, True)):
+            world = copy.copy(World(THREE, 1))
+            world._parts = {**world._parts, "decided": table}
+            self.assertIs(is_one_row(world), told)
+            self.assertEqual(world.decided, tuple((index, told) for index in table for told in table[index]))
+
+    def test_a_late_beginner(self):
+        # a house that begins an epoch later than others, with a longer base
+        world = World(THREE, 1, fold=1).done(("call", 0, ("circle", (0, 1, 2, 3))))
+        world = world.run(calm(world, THREE))
+        for number in range(4):
+            world = world.done(("call", 0, ("put", "a", number)))
+            world = world.run(calm(world, THREE))
+        self.assertEqual((world.begins, world.houses[3].facts), ({0: 0, 1: 1}, None))
+        while world.houses[3].facts is None:
+            leader = driver_of(world, THREE)
+            world = world.run((("beat", leader), ("sync", leader)))
+            carried = [index for index in world.bag.to_house(3) if world.bag.letters[index][0] == "carry"]
+            world = world.done(("take", carried[-1]))
+        self.assertGreater(world.houses[3].facts.base.length, 3)
+        self.assertEqual((world.begins, world.circles), ({0: 0, 1: 1}, {0: THREE, 1: (0, 1, 2, 3)}))
+        self.assertIs(is_sound(world), True)
+        # it promises what its carrier did, as soon as it is synced
+        self.assertNotIn((1, 3), world.promises)
+        world = world.done(("sync", 3))
+        self.assertEqual(world.promises[1, 3], world.houses[3].facts.promised)
+        self.assertIs(is_sound(world), True)
+
+    def test_a_term_that_is_led_twice(self):
+        # without "sync" a house forgets that it has led a term
+        world = World((4,), 1, without="sync").run((("beat", 4),) * 3 + (("take", 0), ("take", 0)))
+        self.assertEqual((world.houses[4].role, world.rows, world.firsts), ("leads", {(0, 0): ()}, {(0, 0): 0}))
+        world = world.run((("call", 0, PUT), ("take", 1)))
+        self.assertEqual(world.rows, {(0, 0): ((0, 1, PUT),)})
+        world = world.run((("fall", 4, ()), ("rise", 4)) + (("lose", 0),) * len(world.bag) + (("beat", 4),) * 3 + (("take", 0), ("take", 0)))
+        self.assertEqual((world.houses[4].role, world.houses[4].facts.entries), ("leads", ()))
+        self.assertEqual((world.rows, world.firsts), ({(0, 0): ((0, 1, PUT),)}, {(0, 0): 0}))
 
     def test_left_out_entries(self):
         # a house that leads again, and has folded all that was decided

@@ -49,8 +49,6 @@ def _check_end(lines):
 def read_world(text):
     """The world with a text."""
     lines = _lines_of(text)
-    if len(lines) < 2:
-        raise ParseError(0)
     world = _begun_with(lines[0])
     for index in range(1, len(lines) - 1):
         event = _value_at(lines[index], index)

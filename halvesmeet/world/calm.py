@@ -65,7 +65,7 @@ def _behind_round(world, lot, most):
     driver = _told_driver(world, lot)
     later = _synced(moved(world, ("beat", driver)), driver)
     if later.houses[driver].role == "leads":
-        for client in later.clients:
+        for client in world.clients:
             if client.open_call is not None:
                 later = moved(later, ("again", client.number, driver))
     while len(later.bag) > 0 and len(later) <= most:
@@ -147,7 +147,8 @@ def is_calm(world, lot, value):
     """Whether the value is just the calm."""
     check_world(world)
     _check_lot(lot)
-    if not isinstance(value, tuple) or not is_plain(value):
+    # True would be equal to 1, but is not plain
+    if not is_plain(value):
         return False
     try:
         return calm(world, lot) == value
