@@ -79,20 +79,21 @@ def _row_of(parts, facts):
 
 def with_sure(parts, house):
     """The parts behind a sync of a house: the facts behind each record that it makes sure count."""
-    number = house.number
-    facts = parts["sure"][number]
+    number, sure = house.number, parts["sure"]
+    facts = sure[number]
     for record in house.pending:
         facts = facts_behind(facts, record)
         parts = _with_facts(parts, number, facts)
-    return {**parts, "sure": {**parts["sure"], number: facts}}
+    return {**parts, "sure": {**sure, number: facts}}
 
 
 def with_left(parts, number, records):
     """The parts behind a fall of a house: the facts behind each record that is left to be read count."""
-    facts = None
+    sure, left = parts["sure"], None
     for facts in each_behind(records):
         parts = _with_facts(parts, number, facts)
-    return {**parts, "sure": {**parts["sure"], number: facts}}
+        left = facts
+    return {**parts, "sure": {**sure, number: left}}
 
 
 def _with_facts(parts, number, facts):

@@ -21,8 +21,8 @@ def first_parts(settings):
         houses[number] = House.fresh(number, own, fold=fold, without=without)
     sure = {number: house.facts for number, house in houses.items()}
     clients = tuple([Client(number, circle) for number in range(many)])
-    return {"houses": houses, "fallen": {}, "sure": sure, "bag": Bag(), "clients": clients, "history": (),
-            **first_record(circle)}
+    record = first_record(circle)
+    return {"houses": houses, "fallen": {}, "sure": sure, "bag": Bag(), "clients": clients, "history": (), **record}
 
 
 def disks_of(parts):
@@ -77,12 +77,14 @@ def _with_client(parts, client):
 
 
 def _with_house(parts, house):
-    return {**parts, "houses": {**parts["houses"], house.number: house}}
+    houses = parts["houses"]
+    return {**parts, "houses": {**houses, house.number: house}}
 
 
 def _with_letters(parts, letters):
     """The parts behind letters that go into the bag."""
-    return {**with_answers(parts, letters), "bag": parts["bag"].sent(letters)}
+    later = with_answers(parts, letters)
+    return {**later, "bag": parts["bag"].sent(letters)}
 
 
 def _with_turn(parts, house):
@@ -136,7 +138,8 @@ def _behind_fall(parts, event, settings):
     _, number, kept = event
     disk = parts["houses"][number].fallen(kept)
     later = with_left(parts, number, Book(disk, without=settings[3]).records)
-    return {**later, "houses": {**parts["houses"], number: None}, "fallen": {**parts["fallen"], number: disk}}
+    houses, fallen = parts["houses"], parts["fallen"]
+    return {**later, "houses": {**houses, number: None}, "fallen": {**fallen, number: disk}}
 
 
 def _behind_rise(parts, event, settings):
@@ -144,14 +147,15 @@ def _behind_rise(parts, event, settings):
     _, _, fold, without = settings
     house = House.risen(number, parts["fallen"][number], fold=fold, without=without)
     fallen = {other: disk for other, disk in parts["fallen"].items() if other != number}
-    return {**_with_house(parts, house), "fallen": fallen}
+    later = _with_house(parts, house)
+    return {**later, "fallen": fallen}
 
 
 def _behind_call(parts, event, settings):
     _, number, deed = event
     client, letter = parts["clients"][number].called(deed)
-    row = ("call", number, client.calls, deed)
-    return {**_with_letters(_with_client(parts, client), (letter,)), "history": parts["history"] + (row,)}
+    later = _with_letters(_with_client(parts, client), (letter,))
+    return {**later, "history": parts["history"] + (("call", number, client.calls, deed),)}
 
 
 def _behind_again(parts, event, settings):
