@@ -298,6 +298,21 @@ class SentencesTest(unittest.TestCase):
         self.assertEqual(fault(self.with_facts(world, 1, Facts(0, THREE, facts.promised, -1, State.first(), ()))), ("disks", 1))
         self.assertIsNone(fault(with_parts(world, houses={**world.houses, 8: None}, fallen={8: Book.fresh().disk})))
 
+    def test_a_base_beyond_the_vote(self):
+        world = World(THREE, 1, fold=12)
+        for number in range(3):
+            world = world.done(("call", 0, ("put", "a", number)))
+            world = world.run(calm(world, THREE))
+        facts = world.houses[1].facts
+        folded = Facts(0, THREE, facts.promised, facts.accepted, facts.state_at(3), ())
+        later = self.with_facts(world, 1, folded)
+        self.assertIsNone(fault(later))
+        later = with_parts(later, votes={**world.votes, (0, facts.accepted, 1): 2})
+        self.assertEqual((fault(later), plain_fault(later)), (("disks", 1), ("disks", 1)))
+        # a house that the circle of the picture lacks
+        later = with_parts(world, circles={0: (1, 2)})
+        self.assertEqual((fault(later), plain_fault(later)), (("disks", 0), ("disks", 0)))
+
     def test_what_a_house_has_decided(self):
         world = World(THREE, 1, fold=12)
         for deed in (PUT, ("put", "b", 2), ("add", "a", 1)):

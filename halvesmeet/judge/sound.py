@@ -7,7 +7,7 @@ from halvesmeet.errors import InvalidNumber, InvalidOperation
 from halvesmeet.house.facts import facts_until_wrong
 from halvesmeet.house.terms import lots_of
 from halvesmeet.judge.pictures import check_picture, first_row, made_picture
-from halvesmeet.store.deeds import READ_WORDS, do_deed, is_stop
+from halvesmeet.store.deeds import READ_WORDS, STOP_WORD, do_deed
 from halvesmeet.store.states import State
 from halvesmeet.world.worlds import check_world
 
@@ -166,7 +166,7 @@ def _do_epochs_follow(world, rows):
         ahead = rows.get(epoch - 1, ())
         if ahead == () or begins[epoch] != begins[epoch - 1] + len(ahead):
             return False
-        if not is_stop(ahead[-1]) or ahead[-1][2][1] != circles[epoch]:
+        if ahead[-1][2] != (STOP_WORD, circles[epoch]):
             return False
     return True
 
