@@ -111,10 +111,10 @@ class PlainHouse:
     def send_laid(self, goal, term, heard):
         self.send("laid", goal, term, self.length(), heard)
 
-    def send_lay(self, goal, few=False):
+    def send_lay(self, goal):
         memory = self.memory
         base, start, entries = self.from_index(memory["laid"].get(goal, memory["at"].get(goal)))
-        if few and self.without == "whole" and goal not in memory["laid"]:
+        if self.without == "whole" and goal not in memory["laid"]:
             entries = entries[:2]
         self.send("lay", goal, memory["term"], memory["opening"], base, start, entries, self.decided(), memory["round"])
 
@@ -410,7 +410,7 @@ class PlainHouse:
             for goal in self.facts["circle"]:
                 if goal in memory["laid"] or goal in memory["at"]:
                     if goal != self.number:
-                        self.send_lay(goal, few=True)
+                        self.send_lay(goal)
                 elif goal != self.number:
                     self.send("ask", goal, memory["term"], self.decided())
         elif not self.is_over() and memory["counter"] >= 3 + self.facts["circle"].index(self.number):

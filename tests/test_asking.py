@@ -423,13 +423,55 @@ class GrantTest(unittest.TestCase):
     def test_best(self):
         facts = facts_with(3, promised=9)
         own, other = (4, 2, None, 2, entries_from(1, 2)), (6, 1, None, 2, entries_from(4, 2, client=3))
-        plain, told = check_rules(self, lambda rule: self.leading(facts, {1: own, 2: other}, 2, without=rule)[1], ("best",))
+        plain, told = check_rules(self, lambda rule: self.leading(facts, {1: own, 2: other}, 2, without=rule)[1], ("best", "whole"))
         self.assertEqual((plain[2].length, told["best"][2].entries), (6, facts.entries))
+        # without "whole" just the first lay is another one
+        self.assertEqual(plain[:3], told["whole"][:3])
         self.check_leading(facts, {1: own, 2: other}, (None, 3, ()), without="best")
         # neither a base that was told nor a shorter best row
         base = FIRST.run(entries_from(9))
         self.check_leading(facts, {1: own, 2: (6, 9, base.parts(), 9, ())}, (None, 3, ()), without="best")
         self.check_leading(facts, {1: own, 2: (6, 0, None, 0, ())}, (None, 3, ()), without="best")
+
+    def few(self, plain, letters):
+        """Checks that letters are the plain ones, but that a lay brings no more than two entries."""
+        self.assertEqual(letters, tuple(letter[:8] + (letter[8][:2],) + letter[9:] if letter[0] == "lay" else letter for letter in plain))
+
+    def test_whole_as_a_house_begins_to_lead(self):
+        facts = facts_with(5, circle=FIVE, promised=9)
+        own = (4, 2, None, 2, entries_from(3, 2))
+        for one in range(6):
+            for two in range(6):
+                grants = {2: own, 3: empty_grant(0, one), 8: empty_grant(0, two)}
+                changing = ("whole",) if min(one, two) < 3 else ()
+                plain, told = check_rules(self, lambda rule: self.leading(facts, grants, 8, 2, without=rule)[1][1:], changing)
+                self.assertEqual([(letter[3], letter[8]) for letter in plain[2] if letter[0] == "lay"],
+                                 [(3, entries_from(5 - one, one)), (8, entries_from(5 - two, two))])
+                self.few(plain[2], told["whole"][2])
+        # behind a base, too
+        based = facts_with(4, base=3, circle=FIVE, promised=9)
+        grants = {2: (4, 4, None, 4, entries_from(3, 4)), 3: empty_grant(0, 1), 8: empty_grant(0, 4)}
+        plain, told = check_rules(self, lambda rule: self.leading(based, grants, 8, 2, 4, without=rule)[1][1:], ("whole",))
+        self.few(plain[2], told["whole"][2])
+        self.assertEqual([letter[6:9] for letter in told["whole"][2][1:]],
+                         [(based.base.parts(), 3, entries_from(2, 3)), (None, 4, entries_from(2, 4))])
+
+    def test_whole_behind_a_late_grant(self):
+        for base in (0, 4):
+            facts = facts_with(5, base=base, promised=9)
+            for decided in range(base + 7):
+                memory = memory_at(facts, base + 2, role="leads", term=9, floor=9, opening=base + 5, laid={1: base + 5}, at={1: base})
+                letter = grant(facts, 2, 1, 9, empty_grant(8, decided))
+                changing = ("whole",) if decided < base + 3 else ()
+                plain, told = check_rules(self, lambda rule: taken_grant(facts, memory, 1, letter, without=rule), changing)
+                self.assertEqual((plain[3][0][8], len(plain[3])), (row_from(facts, min(decided, base + 5))[2], 1))
+                self.assertEqual(plain[:3], told["whole"][:3])
+                self.few(plain[3], told["whole"][3])
+                # one that has laid is laid nothing by this, and neither is the house itself
+                for other, laid in ((2, {1: base + 5, 2: 0}), (1, {})):
+                    known = memory.but({"laid": laid})
+                    self.assertEqual(check_rules(self, lambda rule: taken_grant(
+                        facts, known, 1, grant(facts, other, 1, 9, empty_grant(8, decided)), without=rule))[0][3], ())
 
     def test_errors(self):
         facts = facts_with(3)

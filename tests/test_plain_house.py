@@ -58,6 +58,11 @@ class PlainHouseTest(unittest.TestCase):
             for seed in range(14):
                 self.check(Drawn(500 + seed, without=rule, stops=0.1), 220, {})
 
+    def test_without_whole(self):
+        # long rows behind what is decided, so that first lays would bring more than two entries
+        for seed in range(60):
+            self.check(Drawn(700 + seed, clients=5, fold=12, without="whole", stops=0.02, is_wild=(None, True)[seed % 2]), 400, {})
+
     def test_long_rows(self):
         # a leader whose letters are seldom taken: rows behind a base without room
         for seed in range(6):

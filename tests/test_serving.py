@@ -198,6 +198,22 @@ class ReadTest(TurnTest):
         for number in (1, 2, 9):
             check_rules(self, lambda rule: taken_deed(facts, memory, 1, deed_of(0, number, ("put", "a", 0)), without=rule))
 
+    def test_whole(self):
+        facts = facts_with(5, circle=FIVE[:1] + (1,) + FIVE[1:])
+        # 0 and 2 have laid; to 3, 5 and 8 goes a first lay
+        memory = leading(facts, 2, laid={0: 0, 1: 5, 2: 1}, at={0: 0, 1: 2, 3: 0, 5: 2, 8: 3})
+        for deed in (READ, LIST):
+            plain, told = check_rules(self, lambda rule: taken_deed(facts, memory, 1, deed_of(3, 7, deed), without=rule), ("whole", "round"))
+            self.assertEqual(plain[:3], told["whole"][:3])
+            self.assertEqual([(letter[3], letter[8]) for letter in plain[3][1:]], [
+                (0, entries_from(5)), (2, entries_from(4, 1)), (3, entries_from(5)), (5, entries_from(3, 2)), (8, entries_from(2, 3))])
+            self.assertEqual([(letter[3], letter[8]) for letter in told["whole"][3][1:]], [
+                (0, entries_from(5)), (2, entries_from(4, 1)), (3, entries_from(2)), (5, entries_from(2, 2)), (8, entries_from(2, 3))])
+            self.assertEqual([letter[:8] + letter[9:] for letter in plain[3]], [letter[:8] + letter[9:] for letter in told["whole"][3]])
+        # a deed that is no read goes to those that have laid, and none of these lays is a first one
+        plain, told = check_rules(self, lambda rule: taken_deed(facts, memory, 1, deed_of(3, 7, ("put", "a", 7)), without=rule))
+        self.assertEqual([(letter[3], len(letter[8])) for letter in told["whole"][3][1:]], [(0, 6), (2, 5)])
+
 
 class AnsweredTest(unittest.TestCase):
     def test_each_length(self):

@@ -73,7 +73,7 @@ def taken_grant(facts, memory, house, letter, *, without=None):
     if memory.role == "asks" and memory.term == letter[4]:
         return _behind_grant(facts, later, house, letter, without)
     if memory.role == "leads" and memory.term == letter[4]:
-        return _behind_late_grant(facts, later, house, letter)
+        return _behind_late_grant(facts, later, house, letter, without)
     return (), later, facts, ()
 
 
@@ -103,7 +103,7 @@ def _leading(facts, memory, house, without):
         "state": base if base is not None and base.length > memory.decided else memory.state,
         "role": "leads", "leader": house, "counter": 0, "opening": facts.length, "laid": {}, "heard": {}, "round": 0,
         "reads": (), "at": {other: grant[1] for other, grant in grants.items()}})
-    letters = (laid_to(facts, house, house, memory.term, 0),) + lays_to(facts, later, house, grants)
+    letters = (laid_to(facts, house, house, memory.term, 0),) + lays_to(facts, later, house, grants, without)
     return records + (record,), later, facts, letters
 
 
@@ -118,7 +118,7 @@ def _first_row(facts, memory, without):
     return told_state(base), start, entries
 
 
-def _behind_late_grant(facts, memory, house, letter):
+def _behind_late_grant(facts, memory, house, letter, without):
     """The turn behind a grant of the term that the house leads already."""
     goal, decided = letter[2], letter[6]
     # nothing is laid to the house itself, so its own grant has nothing to tell any more
@@ -127,7 +127,7 @@ def _behind_late_grant(facts, memory, house, letter):
     places = memory.at
     places[goal] = decided
     later = changed(memory, {"at": places})
-    return (), later, facts, (lay_to(facts, later, house, goal),)
+    return (), later, facts, (lay_to(facts, later, house, goal, without),)
 
 
 def best_grant(grants):

@@ -12,8 +12,6 @@ from halvesmeet.house.turns import (
 from halvesmeet.net.letters import check_letter
 
 MOST_FOLDED = 12
-# without the rule "whole" a first lay brings no more entries
-FEW = 2
 
 
 def lay_letter(facts, memory, house, goal, *, without=None):
@@ -25,10 +23,7 @@ def lay_letter(facts, memory, house, goal, *, without=None):
         raise InvalidOperation("the house does not lead, or lays to no other house")
     if goal not in memory.laid and goal not in memory.at:
         raise InvalidOperation("nothing is known of the other house in this term")
-    letter = lay_to(facts, memory, house, goal)
-    if without == "whole" and goal not in memory.laid:
-        return letter[:8] + (letter[8][:FEW],) + letter[9:]
-    return letter
+    return lay_to(facts, memory, house, goal, without)
 
 
 def is_fitting(facts, memory, letter, *, without=None):
@@ -101,7 +96,7 @@ def taken_laid(facts, memory, house, letter, *, without=None):
     later = changed(later, {"laid": laid, "heard": _with_greatest(memory.heard, goal, count)})
     later = _decided_to(facts, later, length_chosen(facts.circle, laid, without))
     if goal != house and laid[goal] < facts.length:
-        return (), later, facts, (lay_to(facts, later, house, goal),)
+        return (), later, facts, (lay_to(facts, later, house, goal, without),)
     return (), later, facts, ()
 
 

@@ -25,7 +25,7 @@ def taken_deed(facts, memory, house, letter, *, without=None):
         return (), memory, facts, (_try_of(facts, memory, house, client, number),)
     if deed[0] in READ_WORDS:
         return _behind_read(facts, memory, house, letter, without)
-    return _behind_change(facts, memory, house, letter)
+    return _behind_change(facts, memory, house, letter, without)
 
 
 def _behind_read(facts, memory, house, letter, without):
@@ -41,11 +41,11 @@ def _behind_read(facts, memory, house, letter, without):
     later = changed(memory, {"round": count, "reads": memory.reads + ((client, number, deed, count),)})
     goals = later.at
     goals.update(later.laid)
-    letters = (laid_to(facts, house, house, later.term, count),) + lays_to(facts, later, house, goals)
-    return (), later, facts, letters
+    letters = (laid_to(facts, house, house, later.term, count),)
+    return (), later, facts, letters + lays_to(facts, later, house, goals, without)
 
 
-def _behind_change(facts, memory, house, letter):
+def _behind_change(facts, memory, house, letter, without):
     """The turn of a house that leads behind a deed that is no read."""
     _, client, _, number, deed = letter
     state = memory.state
@@ -61,7 +61,7 @@ def _behind_change(facts, memory, house, letter):
         return (), memory, facts, (_try_of(facts, memory, house, client, number),)
     facts, record = lay(facts, memory.term, None, facts.length, ((client, number, deed),))
     letters = (laid_to(facts, house, house, memory.term, memory.round),)
-    return (record,), memory, facts, letters + lays_to(facts, memory, house, memory.laid)
+    return (record,), memory, facts, letters + lays_to(facts, memory, house, memory.laid, without)
 
 
 def _open_entries(facts, memory):

@@ -7,6 +7,9 @@ from halvesmeet.house.memory import changed, check_memory, check_rule
 from halvesmeet.net.letters import check_letter
 from halvesmeet.store.states import state_of_parts
 
+# without the rule "whole" a first lay brings no more entries
+FEW = 2
+
 
 def check_place(facts, memory, house):
     """Refuses all but facts, a memory, and the number of a house."""
@@ -66,16 +69,20 @@ def bar_to(facts, house, goal, term):
     return "bar", facts.epoch, house, goal, term, facts.promised
 
 
-def lay_to(facts, memory, house, goal):
+def lay_to(facts, memory, house, goal, without):
     """The letter with which who leads lays its row to a house that it has heard of in this term."""
-    start = memory.laid[goal] if goal in memory.laid else memory.at[goal]
+    is_first = goal not in memory.laid
+    start = memory.at[goal] if is_first else memory.laid[goal]
+    base, start, entries = told_row(facts, min(start, facts.length))
+    if is_first and without == "whole":
+        entries = entries[:FEW]
     head = ("lay", facts.epoch, house, goal, memory.term, memory.opening)
-    return head + told_row(facts, min(start, facts.length)) + (memory.decided, memory.round)
+    return head + (base, start, entries, memory.decided, memory.round)
 
 
-def lays_to(facts, memory, house, goals):
+def lays_to(facts, memory, house, goals, without):
     """The lays to all but the house itself of some houses, ascending."""
-    return tuple([lay_to(facts, memory, house, goal) for goal in sorted(goals) if goal != house])
+    return tuple([lay_to(facts, memory, house, goal, without) for goal in sorted(goals) if goal != house])
 
 
 def laid_to(facts, house, goal, term, heard):
